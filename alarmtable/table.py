@@ -1,0 +1,21 @@
+"""The program's one way in: calls handed in as one list of numbers, answers given back as one list of numbers."""
+
+from alarmtable.calls import answer
+from alarmtable.state import Table
+
+# By place: how many numbers stand behind it.
+WIDTHS = {0: 6, 1: 2, 2: 2, 3: 1, 4: 1, 5: 1, 6: 1, 7: 1, 8: 1, 9: 1, 10: 1, 11: 0, 12: 2, 13: 1, 14: 1}
+
+
+def answers(calls):
+    table = Table()
+    given = []
+    at = 0
+    while at < len(calls):
+        place = calls[at]
+        behind = at + 1 + WIDTHS[place]
+        answered = answer(table, place, calls[at + 1:behind])
+        given.append(len(answered))
+        given.extend(answered)
+        at = behind
+    return given
