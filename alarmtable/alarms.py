@@ -1,7 +1,7 @@
 """What happens to a kind, each time with its event: raised, graver, sounding again, acknowledged, gone, reset."""
 
 from alarmtable.paper import ACKNOWLEDGED, GREW, RAISED, RESET, SOUNDED_AGAIN, WENT
-from alarmtable.state import is_shelved, is_silent
+from alarmtable.state import is_shelved, is_silent, raised_kinds
 
 
 def write_event(table, kind, what):
@@ -58,7 +58,7 @@ def lower(table, kind):
     kind.acknowledged = False
     kind.waited = 0
     kind.raised_by = 0
-    if not any([other.raised for other in table.kinds]):
+    if len(raised_kinds(table)) == 0:
         table.first = None
 
 
@@ -94,5 +94,5 @@ def end_condition(table, kind):
 def sound_level(table):
     if is_silent(table):
         return 0
-    loud = [kind.rank_now for kind in table.kinds if kind.raised and not kind.acknowledged]
+    loud = [kind.rank_now for kind in raised_kinds(table) if not kind.acknowledged]
     return max(loud, default=-1) + 1

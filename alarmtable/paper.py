@@ -21,10 +21,10 @@ class Event:
 
 
 class Standing:
-    def __init__(self, raised_by, rank):
+    def __init__(self, raised_by, rank, acknowledged):
         self.raised_by = raised_by
         self.rank = rank
-        self.acknowledged = False
+        self.acknowledged = acknowledged
 
 
 class Paper:
@@ -37,9 +37,19 @@ class Paper:
     def at_end(self):
         return self.next_number >= END_NUMBER
 
-    def write(self, clock, kind, what, rank):
+    def take_number(self):
         number = self.next_number
         self.next_number = number + 1
+        return number
+
+    # For a kind that is raised already when the paper is new: it takes an event's number, but there is no event.
+    def carry_over(self, kind, rank, acknowledged):
+        number = self.take_number()
+        self.base[kind] = Standing(number, rank, acknowledged)
+        return number
+
+    def write(self, clock, kind, what, rank):
+        number = self.take_number()
         self.events.append(Event(number, clock, kind, what, rank))
         if len(self.events) > MOST_KEPT:
             self.move_into_base(self.events.pop(0))
@@ -47,7 +57,7 @@ class Paper:
 
     def move_into_base(self, event):
         if event.what == RAISED:
-            self.base[event.kind] = Standing(event.number, event.rank)
+            self.base[event.kind] = Standing(event.number, event.rank, False)
         elif event.what == WENT or event.what == RESET:
             self.base.pop(event.kind)
         else:

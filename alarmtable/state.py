@@ -41,3 +41,16 @@ def is_silent(table):
 
 def is_shelved(table, kind):
     return table.clock < kind.shelved_to
+
+
+def raised_kinds(table):
+    return [kind for kind in table.kinds if kind.raised]
+
+
+def raising_number(kind):
+    return kind.raised_by
+
+
+# Events are numbered in the order in which they come, so the number of the event that raised a kind tells its turn.
+def raised_in_turn(table):
+    return sorted(raised_kinds(table), key=raising_number)

@@ -2,8 +2,8 @@
 through all events of the paper. The program is held against it."""
 
 
-def replay(events):
-    standing = []
+def replay(begun, events):
+    standing = [list(row) for row in begun]
     for number, clock, kind, what, rank in events:
         if what == 0:
             standing.append([kind, number, rank, 0])
@@ -22,7 +22,9 @@ class PlainTable:
         self.kinds = []
         self.links = set()
         self.clock = 0
+        self.begun = []
         self.events = []
+        self.turn = []
         self.silence = None
         self.first = None
 
@@ -30,27 +32,36 @@ class PlainTable:
         return k in range(len(self.kinds))
 
     def before(self, a, b):
-        return a != b and ((a, b) in self.links or any(x == a and self.before(c, b) for x, c in self.links))
+        later = [c for x, c in self.links if x == a]
+        for c in later:
+            later += [d for x, d in self.links if x == c and d not in later]
+        return b in later
+
+    def next_number(self):
+        return len(self.begun) + len(self.events)
 
     def ended(self):
-        return len(self.events) >= 2000
+        return self.next_number() >= 2000
 
     def write(self, k, what, rank):
-        self.events.append((len(self.events), self.clock, k, what, rank))
+        self.events.append((self.next_number(), self.clock, k, what, rank))
         if what <= 2 and self.silence and rank >= self.silence[1]:
             self.silence = None
         if what in (4, 5) and not any(kind["up"] for kind in self.kinds):
             self.first = None
 
     def raise_it(self, k):
-        self.kinds[k].update(held=0, up={"by": len(self.events), "rank": self.kinds[k]["rank"], "ack": 0, "waited": 0})
-        self.write(k, 0, self.kinds[k]["rank"])
+        rank = self.kinds[k]["rank"]
+        self.kinds[k].update(held=0, up={"by": self.next_number(), "rank": rank, "ack": 0, "waited": 0})
+        self.turn.append(k)
+        self.write(k, 0, rank)
         if self.first is None:
             self.first = k
 
     def lower(self, k, what):
         rank = self.kinds[k]["up"]["rank"]
         self.kinds[k]["up"] = None
+        self.turn.remove(k)
         self.write(k, what, rank)
 
     def change(self, k, what, **values):
@@ -276,23 +287,87 @@ class PlainTable:
         self.end_silence()
         return [t]
 
-    def answer(self, place, numbers):
-        calls = (self.define, self.link, self.unlink, self.on, self.off, self.sense, self.tick, self.ack, self.ack_to,
-                 self.silence_it, self.reset, self.reset_all, self.shelve, self.unshelve, self.set_clock)
-        return calls[place](*numbers)
+    def renew(self):
+        for number, k in enumerate(self.turn):
+            self.kinds[k]["up"]["by"] = number
+        ups = [self.kinds[k]["up"] for k in self.turn]
+        self.begun = [(k, up["by"], up["rank"], up["ack"]) for k, up in zip(self.turn, ups)]
+        self.events = []
+        return [len(self.turn)]
 
-    def log(self):
-        return self.events[-64:]
+    def tell_sound(self):
+        return [self.sound()]
 
-    def base(self):
-        return replay(self.events[:-64])
+    def stops(self):
+        bits = [any(self.kinds[k]["stops"] // 2 ** bit % 2 for k in self.turn) for bit in range(16)]
+        return [sum(2 ** bit for bit in range(16) if bits[bit])]
+
+    def shown(self):
+        rows = []
+        for ack in (0, 1):
+            for rank in (3, 2, 1, 0):
+                for k in self.turn:
+                    if (self.kinds[k]["up"]["ack"], self.kinds[k]["up"]["rank"]) == (ack, rank):
+                        rows += [k, rank, ack, self.kinds[k]["holds"]]
+        return [len(self.turn)] + rows
 
     def kind(self, k):
+        if not self.has(k):
+            return [-1]
         kind = self.kinds[k]
         up = kind["up"]
-        return (kind["rank"], kind["latching"], kind["delay"], kind["escalate"], kind["again"], kind["stops"],
-                kind["holds"], kind["held"], max(0, kind["shelf"] - self.clock), int(bool(up)),
-                *((up["rank"], up["ack"], up["waited"], up["by"]) if up else (0, 0, 0, 0)))
+        return [kind["rank"], kind["latching"], kind["delay"], kind["escalate"], kind["again"], kind["stops"],
+                kind["holds"], kind["held"], kind["shelf"] - self.clock if self.shelved(k) else 0, int(bool(up)),
+                *((up["rank"], up["ack"], up["waited"], up["by"]) if up else (0, 0, 0, 0))]
 
-    def silence_left(self):
-        return (self.silence[0] - self.clock, self.silence[1]) if self.silence else (0, 0)
+    def tally(self):
+        ups = [self.kinds[k]["up"] for k in self.turn]
+        return [sum(up["rank"] == rank for up in ups) for rank in range(4)] + [sum(not up["ack"] for up in ups)]
+
+    def tell_first(self):
+        return [0] if self.first is None else [1 + self.first]
+
+    def tell_before(self, a, b):
+        return [int(self.before(a, b))] if self.has(a) and self.has(b) else [-1]
+
+    def all_before(self, k, among):
+        rows = [a for a in sorted(among) if self.before(a, k)]
+        return [len(rows)] + rows
+
+    def behind(self, k):
+        return self.all_before(k, range(len(self.kinds))) if self.has(k) else [-1]
+
+    def order(self):
+        left, done = sorted(self.turn), []
+        while left:
+            done.append(min(k for k in left if self.all_before(k, left) == [0]))
+            left.remove(done[-1])
+        return [len(done)] + done
+
+    def why(self, k):
+        if not self.has(k):
+            return [-1]
+        if k not in self.turn:
+            return [-6]
+        return [self.kinds[k]["holds"], 1 - self.kinds[k]["up"]["ack"]] + self.all_before(k, self.turn)
+
+    def log(self, n):
+        if n not in range(1000001):
+            return [-1]
+        rows = [event for event in self.events[-64:] if event[0] >= n]
+        return [len(rows)] + [number for event in rows for number in event]
+
+    def base(self):
+        rows = replay(self.begun, self.events[:-64])
+        return [len(rows)] + [number for row in rows for number in row]
+
+    def time(self):
+        left = (self.silence[0] - self.clock, self.silence[1]) if self.silence else (0, 0)
+        return [self.clock, self.next_number(), *left]
+
+    def answer(self, place, numbers):
+        calls = (self.define, self.link, self.unlink, self.on, self.off, self.sense, self.tick, self.ack, self.ack_to,
+                 self.silence_it, self.reset, self.reset_all, self.shelve, self.unshelve, self.set_clock, self.renew,
+                 self.tell_sound, self.stops, self.shown, self.kind, self.tally, self.tell_first, self.tell_before,
+                 self.behind, self.order, self.why, self.log, self.base, self.time)
+        return calls[place](*numbers)

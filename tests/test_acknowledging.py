@@ -2,7 +2,7 @@
 
 import unittest
 
-from tests.helpers import TableCase, log_of, silence_of
+from tests.helpers import TableCase
 
 TOO_BIG = 10 ** 18
 
@@ -15,7 +15,7 @@ class Ack(TableCase):
         self.see(0, waited=3)
         self.assertEqual(self.do("ack", 0), 1)
         self.see(0, acknowledged=True, waited=0, raised=True, rank_now=1)
-        self.assertEqual(log_of(self.table)[-1], (1, 3, 0, 3, 1))
+        self.assertEqual(self.log()[-1], (1, 3, 0, 3, 1))
 
     def test_event_tells_the_rank_now(self):
         self.kind(escalate=1)
@@ -110,7 +110,7 @@ class Silence(TableCase):
         self.do("sense", 7)
         self.do("ack", 1)
         self.assertEqual(self.do("silence", 120), 1)
-        self.assertEqual(silence_of(self.table), (120, 1))
+        self.assertEqual(self.silence(), (120, 1))
         self.assertEqual(self.table.silent_to, 170)
 
     def test_hides_the_rank_now(self):
@@ -154,7 +154,7 @@ class Silence(TableCase):
                 self.do("on", 0)
                 self.do("silence", 100)
                 self.do("on", 1)
-                self.assertEqual(silence_of(self.table), (0, 0) if ends else (100, 1))
+                self.assertEqual(self.silence(), (0, 0) if ends else (100, 1))
 
     def test_sounding_again_by_on_ends_it(self):
         self.kind(rank=1)
@@ -164,7 +164,7 @@ class Silence(TableCase):
         self.do("off", 1)
         self.assertEqual(self.do("silence", 100), 1)
         self.do("on", 1)
-        self.assertEqual(silence_of(self.table), (0, 0))
+        self.assertEqual(self.silence(), (0, 0))
         self.assertEqual(self.do("silence", 100), 2)
 
     def test_other_events_do_not_end_it(self):
@@ -179,14 +179,14 @@ class Silence(TableCase):
         self.do("ack", 2)
         self.do("reset", 2)
         self.assertEqual([what for kind, what, rank in self.events()[3:]], [3, 4, 3, 5])
-        self.assertEqual(silence_of(self.table), (100, 1))
+        self.assertEqual(self.silence(), (100, 1))
 
     def test_lasts_though_nothing_is_raised_any_more(self):
         self.kind(rank=1)
         self.do("on", 0)
         self.do("silence", 10)
         self.do("off", 0)
-        self.assertEqual(silence_of(self.table), (10, 1))
+        self.assertEqual(self.silence(), (10, 1))
         self.kind(rank=0)
         self.do("on", 1)
         self.refused(-10, "silence", 5)

@@ -2,7 +2,7 @@
 
 import unittest
 
-from tests.helpers import TableCase, log_of
+from tests.helpers import TableCase
 
 TOO_BIG = 10 ** 18
 
@@ -13,7 +13,7 @@ class On(TableCase):
         self.kind(rank=2, escalate=9)
         self.assertEqual(self.do("on", 0), 2)
         self.see(0, holds=True, raised=True, rank_now=2, acknowledged=False, waited=0, held=0, raised_by=0)
-        self.assertEqual(log_of(self.table), [(0, 5, 0, 0, 2)])
+        self.assertEqual(self.log(), [(0, 5, 0, 0, 2)])
 
     def test_holding_already(self):
         self.kind()
@@ -115,7 +115,7 @@ class Off(TableCase):
         self.do("tick", 2)
         self.assertEqual(self.do("off", 0), 2)
         self.see(0, holds=False, raised=False, rank_now=0, waited=0, held=0, raised_by=0, acknowledged=False)
-        self.assertEqual(log_of(self.table)[-1], (2, 2, 0, 4, 2))
+        self.assertEqual(self.log()[-1], (2, 2, 0, 4, 2))
 
     def test_nothing_of_its_raising_is_left(self):
         self.kind(rank=3)

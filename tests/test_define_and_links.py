@@ -2,7 +2,7 @@
 
 import unittest
 
-from tests.helpers import TableCase, kind_of
+from tests.helpers import TableCase
 
 TOO_BIG = 10 ** 18
 
@@ -13,12 +13,12 @@ class Define(TableCase):
 
     def test_kind_is_as_defined_and_at_rest(self):
         self.do("define", 3, 1, 7, 8, 9, 10)
-        self.assertEqual(kind_of(self.table, 0), (3, 1, 7, 8, 9, 10, 0, 0, 0, 0, 0, 0, 0, 0))
+        self.assertEqual(self.do("kind", 0), [3, 1, 7, 8, 9, 10, 0, 0, 0, 0, 0, 0, 0, 0])
 
     def test_first_and_last_of_each_range(self):
         self.assertEqual(self.do("define", 0, 0, 0, 0, 0, 0), 0)
         self.assertEqual(self.do("define", 3, 1, 3600, 3600, 3600, 65535), 1)
-        self.assertEqual(kind_of(self.table, 1)[:6], (3, 1, 3600, 3600, 3600, 65535))
+        self.assertEqual(self.do("kind", 1)[:6], [3, 1, 3600, 3600, 3600, 65535])
 
     def test_out_of_range(self):
         for at, above in enumerate((4, 2, 3601, 3601, 3601, 65536)):

@@ -75,6 +75,30 @@ class Language(unittest.TestCase):
                     bound = self.bound(source)
                     self.assertEqual([alias.name for alias in node.names if alias.name not in bound], [], name)
 
+    def test_no_two_files_draw_from_one_another(self):
+        drawn = {}
+        for name, tree in self.trees():
+            rows = [node.module for node in ast.walk(tree) if isinstance(node, ast.ImportFrom)]
+            drawn[name] = {row.split(".")[1] + ".py" for row in rows}
+        while drawn:
+            free = [name for name in drawn if not drawn[name] & set(drawn)]
+            self.assertNotEqual(free, [], sorted(drawn))
+            for name in free:
+                drawn.pop(name)
+
+    def test_names_are_not_bound_anew(self):
+        for name, tree in self.trees():
+            rows = [node for node in tree.body if isinstance(node, ast.ImportFrom)]
+            imported = [alias.name for node in rows for alias in node.names]
+            classes = [node.name for node in tree.body if isinstance(node, ast.ClassDef)]
+            top = self.bound(tree) + imported
+            self.assertEqual(len(top), len(set(top)), name)
+            for node in ast.walk(tree):
+                if isinstance(node, ast.arg):
+                    self.assertNotIn(node.arg, imported + classes, name)
+                if isinstance(node, ast.Name) and isinstance(node.ctx, ast.Store):
+                    self.assertNotIn(node.id, imported + classes, name)
+
     def bound(self, tree):
         """The names that a file itself defines at its top."""
         defined = [node.name for node in tree.body if isinstance(node, (ast.FunctionDef, ast.ClassDef))]

@@ -2,7 +2,7 @@
 
 import unittest
 
-from tests.helpers import TableCase, log_of
+from tests.helpers import TableCase
 
 TOO_BIG = 10 ** 18
 
@@ -22,7 +22,7 @@ class Reset(TableCase):
         self.do("ack", 0)
         self.assertEqual(self.do("reset", 0), 1)
         self.see(0, raised=False, holds=False, held=0, rank_now=0, acknowledged=False, waited=0, raised_by=0)
-        self.assertEqual(log_of(self.table)[-1], (3, 4, 0, 5, 2))
+        self.assertEqual(self.log()[-1], (3, 4, 0, 5, 2))
         self.refused(-6, "reset", 0)
 
     def test_raised_anew_behind_it(self):

@@ -2,7 +2,7 @@
 
 import unittest
 
-from tests.helpers import TableCase, kind_of, silence_of
+from tests.helpers import TableCase
 
 TOO_BIG = 10 ** 18
 
@@ -15,7 +15,7 @@ class Shelve(TableCase):
         self.do("tick", 5)
         self.assertEqual(self.do("shelve", 0, 3600), 1)
         self.see(0, shelved_to=3705, held=0, holds=True)
-        self.assertEqual(kind_of(self.table, 0)[8], 3600)
+        self.assertEqual(self.do("kind", 0)[8], 3600)
 
     def test_whatever_it_was_before(self):
         self.kind()
@@ -165,9 +165,9 @@ class Clock(TableCase):
         self.do("silence", 10)
         self.do("off", 0)
         self.do("clock", 9)
-        self.assertEqual(silence_of(self.table), (1, 1))
+        self.assertEqual(self.silence(), (1, 1))
         self.do("clock", 10)
-        self.assertEqual(silence_of(self.table), (0, 0))
+        self.assertEqual(self.silence(), (0, 0))
         self.kind(rank=0)
         self.do("on", 1)
         self.assertEqual(self.do("silence", 1), 0)

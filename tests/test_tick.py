@@ -2,7 +2,7 @@
 
 import unittest
 
-from tests.helpers import TableCase, log_of, silence_of
+from tests.helpers import TableCase
 
 TOO_BIG = 10 ** 18
 
@@ -53,7 +53,7 @@ class Delay(TableCase):
         self.see(0, held=4, raised=False)
         self.assertEqual(self.do("tick", 1), 1)
         self.see(0, held=0, raised=True, rank_now=2)
-        self.assertEqual(log_of(self.table), [(0, 5, 0, 0, 2)])
+        self.assertEqual(self.log(), [(0, 5, 0, 0, 2)])
 
     def test_count_stays_0_while_raised(self):
         self.kind(delay=2)
@@ -86,7 +86,7 @@ class Shelved(TableCase):
         self.do("on", 0)
         self.assertEqual(self.do("tick", 9), 0)
         self.assertEqual(self.do("tick", 1), 1)
-        self.assertEqual(log_of(self.table), [(0, 10, 0, 0, 0)])
+        self.assertEqual(self.log(), [(0, 10, 0, 0, 0)])
 
     def test_count_does_not_grow_at_the_very_second(self):
         self.kind(delay=2)
@@ -100,7 +100,7 @@ class Shelved(TableCase):
         self.see(0, held=1, raised=False)
         self.do("tick", 1)
         self.see(0, raised=True)
-        self.assertEqual(log_of(self.table)[0][1], 12)
+        self.assertEqual(self.log()[0][1], 12)
 
     def test_over_the_very_second_in_one_tick(self):
         self.kind(delay=7)
@@ -109,7 +109,7 @@ class Shelved(TableCase):
         self.assertEqual(self.do("tick", 16), 0)
         self.see(0, held=6)
         self.assertEqual(self.do("tick", 3), 1)
-        self.assertEqual(log_of(self.table)[0][1], 17)
+        self.assertEqual(self.log()[0][1], 17)
 
     def test_unshelved_counts_from_the_next_second(self):
         self.kind(delay=2)
@@ -132,7 +132,7 @@ class Escalate(TableCase):
         self.see(0, waited=0, rank_now=1)
         self.assertEqual(self.do("tick", 3000), 2)
         self.see(0, waited=0, rank_now=3, rank=0)
-        self.assertEqual(log_of(self.table)[1:], [(1, 4, 0, 1, 1), (2, 8, 0, 1, 2), (3, 12, 0, 1, 3)])
+        self.assertEqual(self.log()[1:], [(1, 4, 0, 1, 1), (2, 8, 0, 1, 2), (3, 12, 0, 1, 3)])
 
     def test_escalate_0(self):
         self.kind(again=1)
@@ -156,7 +156,7 @@ class Escalate(TableCase):
         self.kind(delay=2, escalate=3)
         self.do("on", 0)
         self.assertEqual(self.do("tick", 5), 2)
-        self.assertEqual([(e[1], e[3]) for e in log_of(self.table)], [(2, 0), (5, 1)])
+        self.assertEqual([(e[1], e[3]) for e in self.log()], [(2, 0), (5, 1)])
 
     def test_kinds_of_one_second_in_the_order_of_their_numbers(self):
         self.kind(delay=4, escalate=2)
@@ -164,7 +164,7 @@ class Escalate(TableCase):
         self.kind(delay=6)
         self.do("sense", 7)
         self.assertEqual(self.do("tick", 6), 4)
-        self.assertEqual([(e[1], e[2], e[3]) for e in log_of(self.table)],
+        self.assertEqual([(e[1], e[2], e[3]) for e in self.log()],
                          [(0, 1, 0), (4, 0, 0), (6, 0, 1), (6, 1, 1), (6, 2, 0)])
 
 
@@ -177,7 +177,7 @@ class Again(TableCase):
         self.see(0, waited=2, acknowledged=True)
         self.assertEqual(self.do("tick", 1), 1)
         self.see(0, waited=0, acknowledged=False)
-        self.assertEqual(log_of(self.table)[-1], (2, 3, 0, 2, 1))
+        self.assertEqual(self.log()[-1], (2, 3, 0, 2, 1))
         self.assertEqual(self.do("tick", 100), 0)
 
     def test_again_0(self):
@@ -207,7 +207,7 @@ class Again(TableCase):
         self.do("on", 0)
         self.do("ack", 0)
         self.assertEqual(self.do("tick", 20), 4)
-        self.assertEqual([(e[1], e[3], e[4]) for e in log_of(self.table)[2:]],
+        self.assertEqual([(e[1], e[3], e[4]) for e in self.log()[2:]],
                          [(3, 2, 0), (5, 1, 1), (7, 1, 2), (9, 1, 3)])
 
 
@@ -218,9 +218,9 @@ class SilenceInTick(TableCase):
         self.do("silence", 10)
         self.do("tick", 9)
         self.refused(-10, "silence", 1)
-        self.assertEqual(silence_of(self.table), (1, 1))
+        self.assertEqual(self.silence(), (1, 1))
         self.do("tick", 1)
-        self.assertEqual(silence_of(self.table), (0, 0))
+        self.assertEqual(self.silence(), (0, 0))
         self.assertEqual(self.do("silence", 1), 1)
 
     def test_growing_to_the_hidden_rank_ends_it(self):
@@ -230,9 +230,9 @@ class SilenceInTick(TableCase):
         self.do("on", 1)
         self.do("silence", 100)
         self.do("tick", 9)
-        self.assertEqual(silence_of(self.table), (91, 2))
+        self.assertEqual(self.silence(), (91, 2))
         self.do("tick", 1)
-        self.assertEqual(silence_of(self.table), (0, 0))
+        self.assertEqual(self.silence(), (0, 0))
 
     def test_sounding_again_ends_it(self):
         self.kind(rank=1)
@@ -241,9 +241,9 @@ class SilenceInTick(TableCase):
         self.do("ack", 1)
         self.do("silence", 100)
         self.do("tick", 4)
-        self.assertEqual(silence_of(self.table), (96, 1))
+        self.assertEqual(self.silence(), (96, 1))
         self.do("tick", 1)
-        self.assertEqual(silence_of(self.table), (0, 0))
+        self.assertEqual(self.silence(), (0, 0))
 
     def test_sounding_again_below_the_hidden_rank_does_not(self):
         self.kind(rank=1)
@@ -252,7 +252,7 @@ class SilenceInTick(TableCase):
         self.do("ack", 1)
         self.do("silence", 100)
         self.do("tick", 5)
-        self.assertEqual(silence_of(self.table), (95, 1))
+        self.assertEqual(self.silence(), (95, 1))
 
 
 if __name__ == "__main__":

@@ -1,25 +1,22 @@
-"""The calls at the places 0 to 14. Each takes the table and its numbers, and gives back the numbers it answers."""
+"""The calls at the places 0 to 15, which change the table.
+
+Each takes the table and its numbers, and gives back the numbers it answers.
+"""
 
 from alarmtable.alarms import acknowledge, end_condition, raise_kind, reset_kind, sound_level, start_condition
+from alarmtable.paper import Paper
+from alarmtable.ranges import has_kind, within
 from alarmtable.refusals import ALREADY_RAISED, CLOCK_GOES_BACK, CLOCK_TOO_FAR, LINK_IN_A_CIRCLE, NOT_RAISED
 from alarmtable.refusals import NOTHING_SOUNDS, OUT_OF_RANGE, PAPER_AT_END, RANK_TOO_GRAVE, TABLE_NOT_AT_REST
 from alarmtable.refusals import TOO_MANY_KINDS
 from alarmtable.resets import next_to_reset, reset_refusal
 from alarmtable.seconds import pass_seconds
-from alarmtable.state import Kind, is_shelved
+from alarmtable.state import Kind, is_shelved, raised_in_turn, raised_kinds
 
 DEFINITION_RANGES = ((0, 3), (0, 1), (0, 3600), (0, 3600), (0, 3600), (0, 65535))
 MOST_KINDS = 32
 LAST_SECOND = 1000000000
 GRAVEST_SHELVED = 1
-
-
-def within(number, least, greatest):
-    return least <= number and number <= greatest
-
-
-def has_kind(table, k):
-    return within(k, 0, len(table.kinds) - 1)
 
 
 # 0 where nothing stands against it. Asked once, ahead of all a call does: what has begun writes all its events.
@@ -121,7 +118,7 @@ def ack_to(table, numbers):
     refusal = writing_refusal(table, within(rank, 0, 3))
     if refusal < 0:
         return [refusal]
-    calling = [kind for kind in table.kinds if kind.raised and not kind.acknowledged and kind.rank_now <= rank]
+    calling = [kind for kind in raised_kinds(table) if not kind.acknowledged and kind.rank_now <= rank]
     for kind in calling:
         acknowledge(table, kind)
     return [len(calling)]
@@ -206,6 +203,14 @@ def set_clock(table, numbers):
     return [t]
 
 
+def renew(table, numbers):
+    raised = raised_in_turn(table)
+    table.paper = Paper()
+    for kind in raised:
+        kind.raised_by = table.paper.carry_over(kind.number, kind.rank_now, kind.acknowledged)
+    return [len(raised)]
+
+
 CALLS = {
     0: define,
     1: link,
@@ -222,8 +227,9 @@ CALLS = {
     12: shelve,
     13: unshelve,
     14: set_clock,
+    15: renew,
 }
 
 
-def answer(table, place, numbers):
+def change(table, place, numbers):
     return CALLS[place](table, numbers)
